@@ -1,0 +1,1 @@
+"""Small programs of hands, whose numbers are given again."""
