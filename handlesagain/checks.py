@@ -15,6 +15,11 @@ def is_index(value, many):
     return is_count(value) and value < many
 
 
+def is_between(value, least, most):
+    """Whether any value is an integer from least to most, neither of them below 0."""
+    return is_count(value) and least <= value <= most
+
+
 def is_name(value):
     """Whether any value is a string of 1 to 8 letters from a to z."""
     if not isinstance(value, str) or not 1 <= len(value) <= LONGEST_NAME:

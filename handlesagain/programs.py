@@ -4,6 +4,7 @@ from handlesagain.checks import are_names, is_count, is_index, is_listing, is_na
 from handlesagain.errors import InvalidName, InvalidNumber, InvalidProgram, InvalidRow, InvalidSort
 
 WORDS = ("open", "close", "renew", "use", "set", "drop", "lock", "unlock", "go", "rest")
+DEEDS = ("close", "renew", "use")
 
 MOST_SORTS = 3
 MOST_ROWS = 10
@@ -47,6 +48,11 @@ def _variables_of(row):
 def _locks_of(row):
     """The names of the locks of a row."""
     return row[1:] if row[0] in ("lock", "unlock") else ()
+
+
+def replaced(items, at, item):
+    """The tuple with another item at a place."""
+    return items[:at] + (item,) + items[at + 1:]
 
 
 class Sort:
@@ -104,8 +110,7 @@ class Sort:
         """Return the sort with another row at a place."""
         if not is_index(at, len(self._rows)):
             raise InvalidNumber(at)
-        rows = self._rows[:at] + (row,) + self._rows[at + 1:]
-        return Sort(self._name, rows, own=self._own)
+        return Sort(self._name, replaced(self._rows, at, row), own=self._own)
 
 
 def _are_sorts(values):

@@ -2,6 +2,8 @@
 
 import unittest
 
+from handlesagain.texts import read
+
 
 class Stubborn:
     """An object that bears no comparison and cannot be hashed."""
@@ -35,3 +37,140 @@ def others():
     """Objects of many kinds: none is a string, a number of a row, a tuple that is a row, a sort or a program."""
     return [None, True, False, -1, 10 ** 30, b"a", [], {}, set(), {"a": 1}, (), ((),), ([],), (None,), object(),
             Stubborn(), [Stubborn()], (Stubborn(),), len, ValueError]
+
+
+class PlainTable:
+    """A table by the words of the document: it keeps nothing but what happened, and looks it all up."""
+
+    def __init__(self, size, book, turns):
+        self.size, self.book, self.turns = size, book, turns
+        self.happened = []
+
+    def entries(self, number):
+        """The entries that a number has had."""
+        entered = [other for word, other in self.happened if word != "close"]
+        return [entry for entry, other in enumerate(entered) if other == number]
+
+    def is_free(self, number):
+        words = [word for word, other in self.happened if other == number]
+        return not words or words[-1] == "close"
+
+    def entry(self, number):
+        return None if self.is_free(number) else self.entries(number)[-1]
+
+    def free(self):
+        numbers = [number for number in range(self.size) if self.is_free(number)]
+        if self.book == "any" or not numbers:
+            return tuple(numbers)
+        if self.book == "next":
+            given = [-1] + [number for word, number in self.happened if word == "open"]
+            numbers = [number for number in numbers if number > given[-1]] + numbers
+        if self.book == "last":
+            closed = [number for word, number in self.happened if word == "close"]
+            numbers = [number for number in closed[::-1] if number in numbers] + numbers
+        return (numbers[0],)
+
+    def enter(self, word, number):
+        """Open or renew: the handle as a tuple of number, turn and entry."""
+        self.happened.append((word, number))
+        entries = self.entries(number)
+        return (number, (len(entries) - 1) % self.turns, entries[-1])
+
+    def word(self, handle):
+        """The word of a deed with a handle."""
+        if handle is None or handle[0] >= self.size or self.is_free(handle[0]):
+            return "refused"
+        entries = self.entries(handle[0])
+        if (len(entries) - 1) % self.turns != handle[1]:
+            return "refused"
+        return "done" if entries[-1] == handle[2] else "fault"
+
+
+class PlainPlay:
+    """A bench that is played, by the words of the document."""
+
+    def __init__(self, bench):
+        self.bench = bench
+        self.table = PlainTable(bench.size, bench.book, bench.turns)
+        self.sorts = [bench.program[name] for name in bench.hands]
+        self.rows = [0 for _ in self.sorts]
+        self.common = {name: None for name in bench.program.common}
+        self.own = [{name: None for name in sort.own} for sort in self.sorts]
+        self.takers = {name: None for name in bench.program.locks}
+        self.fault = None
+
+    def choices(self, hand):
+        if self.fault is not None or self.rows[hand] == len(self.sorts[hand]):
+            return []
+        word, *names = self.sorts[hand][self.rows[hand]]
+        if word == "go":
+            return [choice for choice, _ in enumerate(names)]
+        if word == "lock":
+            return [0] if self.takers[names[0]] is None else []
+        free = self.table.free()
+        return list(free) if word == "open" and self.table.book == "any" and free else [0]
+
+    def steps(self):
+        return [(hand, choice) for hand, _ in enumerate(self.sorts) for choice in self.choices(hand)]
+
+    def variables(self, hand, name):
+        return self.common if name in self.common else self.own[hand]
+
+    def step(self, hand, choice):
+        """Make a step that can be made; return its word."""
+        word, *names = self.sorts[hand][self.rows[hand]]
+        told = "done"
+        if word in ("open", "close", "renew", "use"):
+            told = self.deal(hand, word, names[0], choice)
+        elif word == "set":
+            self.variables(hand, names[0])[names[0]] = self.variables(hand, names[1])[names[1]]
+        elif word == "drop":
+            self.variables(hand, names[0])[names[0]] = None
+        elif word == "lock":
+            self.takers[names[0]] = hand
+        elif word == "unlock":
+            if self.takers[names[0]] == hand:
+                self.takers[names[0]] = None
+        if told != "fault":
+            self.rows[hand] = names[choice] if word == "go" else self.rows[hand] + 1
+        return told
+
+    def deal(self, hand, word, name, choice):
+        variables, table = self.variables(hand, name), self.table
+        if word == "open":
+            free = table.free()
+            number = choice if table.book == "any" else (*free, None)[0]
+            variables[name] = table.enter("open", number) if free else None
+            return "done" if free else "refused"
+        handle = variables[name]
+        told = table.word(handle)
+        if told == "fault":
+            self.fault = (handle[2], table.entry(handle[0]))
+        elif told == "done" and word == "close":
+            table.happened.append(("close", handle[0]))
+        elif told == "done" and word == "renew":
+            variables[name] = table.enter("renew", handle[0])
+        return told
+
+
+# Programs with each kind of row, with rounds, with locks that are freed, kept, or taken in two orders.
+TEXTS = [
+    "common c\nsort a\n  open c\n  close c\nsort b v\n  set v c\n  use v",
+    "common c\nsort a\n  open c\n  renew c\n  close c\nsort b v\n  set v c\n  use v\n  close v",
+    "sort a v w\n  open v\n  set w v\n  close v\n  open v\n  use w\n  close w",
+    "sort a v\n  open v\n  close v\n  go 0 3\n  open v",
+    "common c d\nsort a v\n  open c\n  set d c\n  close d\n  drop d\nsort b\n  close c\n  use d\n  open d",
+    "common c\nlocks k\nsort a\n  lock k\n  open c\n  close c\n  unlock k\nsort b v\n  lock k\n  set v c\n  use v\n"
+    "  unlock k",
+    "locks k l\nsort a\n  lock k\n  lock l\n  unlock l\n  unlock k\nsort b\n  lock l\n  lock k\n  unlock k",
+    "locks k\nsort a\n  lock k\n  unlock k\n  unlock k\n  lock k\nsort b\n  unlock k\n  lock k\n  rest",
+    "common c\nsort a v\n  open v\n  set c v\n  go 1 3 3 4\n  renew c\n  use v",
+    "common c\nsort a\n  go 1 2 0\n  open c\n  close c\n  go 0\nsort b v\n  set v c\n  go 2 2\n  renew v\n  use c",
+    "common c d\nlocks k\nsort a v\n  lock k\n  open v\n  set d v\n  set c v\n  renew d\n  unlock k\nsort b\n  use c\n"
+    "sort c\n  close d\n  go 0",
+    "sort a v\n  renew v\n  close v\n  use v\n  drop v\n  set v v\n  rest\n  open v\n  use v\n  go 9\n  rest",
+]
+
+
+def programs():
+    return [read(text) for text in TEXTS]

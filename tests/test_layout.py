@@ -1,34 +1,56 @@
 """Where the interface of the document is defined, and what the language rules say of whole files."""
 
 import ast
+import builtins
 import inspect
 import os
 import unittest
 
 import handlesagain
-from handlesagain import errors, programs, texts
+from handlesagain import benches, errors, handles, programs, tables, texts
+from handlesagain.benches import Bench
+from handlesagain.handles import Handle
 from handlesagain.programs import Program, Sort
+from handlesagain.tables import Table
 
 ERRORS = ["HandleError", "InvalidNumber", "InvalidName", "InvalidRow", "InvalidSort", "InvalidProgram", "InvalidText",
           "InvalidBook", "InvalidHands", "InvalidStep", "InvalidEdit", "InvalidCommand", "TooMany", "NothingToUndo"]
 
-DEFINED = [(errors, ERRORS), (programs, ["is_row", "Sort", "Program"]), (texts, ["write", "read"])]
+DEFINED = [
+    (errors, ERRORS), (programs, ["is_row", "Sort", "Program"]), (texts, ["write", "read"]), (handles, ["Handle"]),
+    (tables, ["Table"]), (benches, ["Bench"]),
+]
 
 METHODS = [
     (Sort, ["__init__", "__getitem__", "__len__", "__contains__", "__eq__", "changed"], ["name", "rows", "own"]),
     (Program, ["__init__", "__getitem__", "__len__", "__contains__", "__eq__", "__or__", "lone", "pair"],
      ["sorts", "common", "locks"]),
+    (Handle, ["__init__", "__eq__"], ["number", "turn", "entry", "text"]),
+    (Table, ["__init__", "__getitem__", "__len__", "__contains__", "free", "give", "close", "renew", "use", "copied"],
+     ["size", "book", "turns"]),
+    (Bench, ["__init__", "__eq__", "__call__"], ["program", "hands", "size", "book", "turns"]),
 ]
 
 PARAMETERS = [
     (programs.is_row, ["value"]), (texts.write, ["program"]), (texts.read, ["text"]), (Program.lone, ["sort"]),
     (Program.pair, []), (Sort.changed, ["self", "at", "row"]), (Sort, ["name", "rows", "own"]),
-    (Program, ["sorts", "common", "locks"]),
+    (Program, ["sorts", "common", "locks"]), (Handle, ["number", "turn", "entry"]), (Table, ["size", "book", "turns"]),
+    (Table.free, ["self"]), (Table.give, ["self", "number"]), (Table.close, ["self", "handle"]),
+    (Table.renew, ["self", "handle"]), (Table.use, ["self", "handle"]), (Table.copied, ["self"]),
+    (Bench, ["program", "hands", "size", "book", "turns"]), (Bench.__call__, ["self", "run"]),
 ]
 
 FOLDER = os.path.dirname(handlesagain.__file__)
 
 LIBRARY = {"heapq", "math", "itertools"}
+
+BUILTINS = {
+    "len", "range", "enumerate", "zip", "min", "max", "sum", "abs", "sorted", "reversed", "int", "str", "bool", "list",
+    "tuple", "dict", "set", "isinstance", "ord", "repr", "any", "all", "divmod", "iter", "next", "map", "Exception",
+    "ValueError", "TypeError", "KeyError", "IndexError", "LookupError", "ZeroDivisionError", "ArithmeticError",
+    "OverflowError", "RuntimeError", "NotImplementedError", "StopIteration", "NotImplemented", "property",
+    "staticmethod", "classmethod", "super",
+}
 
 
 def sources():
@@ -77,6 +99,38 @@ class TestFiles(unittest.TestCase):
             self.assertTrue(all(sign == "\n" or " " <= sign <= "~" for sign in text), name)
             self.assertLessEqual(len(text.splitlines()), 399, name)
             self.assertLessEqual(max([0, *map(len, text.splitlines())]), 120, name)
+
+    def test_functions_are_short(self):
+        for name, text in sources():
+            for node in ast.walk(ast.parse(text)):
+                if isinstance(node, ast.FunctionDef):
+                    self.assertLessEqual(node.end_lineno - node.lineno + 1, 40, (name, node.name))
+
+    def test_only_the_builtins_of_the_language(self):
+        for name, text in sources():
+            for node in ast.walk(ast.parse(text)):
+                if isinstance(node, ast.Name) and hasattr(builtins, node.id):
+                    self.assertIn(node.id, BUILTINS, name)
+                    self.assertIsInstance(node.ctx, ast.Load, (name, node.id))
+                if isinstance(node, ast.FunctionDef):
+                    self.assertNotIn(node.name, BUILTINS, name)
+                if isinstance(node, ast.arg):
+                    self.assertFalse(hasattr(builtins, node.arg), (name, node.arg))
+
+    def test_statements_that_the_language_does_not_have(self):
+        for name, text in sources():
+            for node in ast.walk(ast.parse(text)):
+                self.assertNotIsInstance(node, (ast.Global, ast.AsyncFunctionDef, ast.GeneratorExp, ast.Div), name)
+
+    def test_no_two_files_import_from_each_other(self):
+        ahead = {}
+        for name, text in sources():
+            nodes = [node for node in ast.walk(ast.parse(text)) if isinstance(node, ast.ImportFrom)]
+            ahead[f"handlesagain.{name[:-3]}"] = [node.module for node in nodes]
+        while ahead:
+            ready = [name for name in ahead if not any(other in ahead for other in ahead[name])]
+            self.assertNotEqual(ready, [], sorted(ahead))
+            ahead = {name: ahead[name] for name in ahead if name not in ready}
 
     def test_imports(self):
         for name, text in sources():
