@@ -55,6 +55,29 @@ def replaced(items, at, item):
     return items[:at] + (item,) + items[at + 1:]
 
 
+def places_of(program, sort, first):
+    """The dict of the places of what a sort can name: common variables, own ones from a first place on, and locks."""
+    places = {name: at for at, name in enumerate(program.common)}
+    for at, name in enumerate(sort.own):
+        places[name] = first + at
+    # Locks have places of their own: a name in a row is that of a variable or of a lock, never of both.
+    for at, name in enumerate(program.locks):
+        places[name] = at
+    return places
+
+
+def placed(rows, places):
+    """The tuple of the rows, with the place of each variable and lock instead of its name."""
+    return tuple([_placed_row(row, places) for row in rows])
+
+
+def _placed_row(row, places):
+    """The row with places instead of names."""
+    if row[0] == "go":
+        return row
+    return (row[0],) + tuple([places[name] for name in row[1:]])
+
+
 class Sort:
     """A sort of hands: a name, rows and own variables."""
 

@@ -27,7 +27,7 @@ class Table:
         # The entry of each number, None where it is free, and how many entries each has had.
         self._entries = [None] * size
         self._counts = [0] * size
-        self._entered = 0
+        self._many_entries = 0
         # Where the book next begins to search.
         self._start = 0
         # For the book last, the free numbers that were given, in the order in which they became free.
@@ -83,8 +83,8 @@ class Table:
 
     def _renewed(self, number):
         """The handle of a new thing to which the number leads from now on."""
-        entry = self._entered
-        self._entered += 1
+        entry = self._many_entries
+        self._many_entries += 1
         self._entries[number] = entry
         self._counts[number] += 1
         return Handle(number, self._turn_of(number), entry=entry)
@@ -134,7 +134,7 @@ class Table:
         table = Table(self._size, book=self._book, turns=self._turns)
         table._entries = list(self._entries)
         table._counts = list(self._counts)
-        table._entered = self._entered
+        table._many_entries = self._many_entries
         table._start = self._start
         table._freed = list(self._freed)
         return table

@@ -1,7 +1,9 @@
 """What several tests need."""
 
+import random
 import unittest
 
+from handlesagain.programs import Program, Sort
 from handlesagain.texts import read
 
 
@@ -171,6 +173,40 @@ TEXTS = [
     "sort a v\n  renew v\n  close v\n  use v\n  drop v\n  set v v\n  rest\n  open v\n  use v\n  go 9\n  rest",
 ]
 
+# A program whose crowd has very many scenes and parts.
+WIDE = (
+    "common c d\nlocks k l\nsort a v\n  lock k\n  open c\n  unlock k\n  set v c\n  use v\n  renew v\n  lock k\n"
+    "  close v\n  unlock k\n  go 0 10\nsort b v w\n  lock k\n  set v c\n  lock l\n  set w d\n  use v\n  use w\n"
+    "  close v\n  unlock l\n  unlock k\n  go 0 10\nsort c\n  lock l\n  open d\n  set d c\n  renew d\n  close d\n"
+    "  unlock l\n  go 0 7"
+)
+
 
 def programs():
     return [read(text) for text in TEXTS]
+
+
+def mixed_programs(many, seed):
+    """So many programs whose rows are drawn, always the same ones for a seed."""
+    draw = random.Random(seed)
+    return [mixed_program(draw) for _ in range(many)]
+
+
+def mixed_program(draw):
+    common, locks = ["c", "d"][:draw.choice([1, 1, 2])], ["k"][:draw.choice([0, 0, 1])]
+    sorts = []
+    for name in "ab"[:draw.choice([1, 2, 2])]:
+        own = ["v", "w"][:draw.choice([0, 1, 1, 2])]
+        many = draw.randint(2, 6)
+        sorts.append(Sort(name, [mixed_row(draw, own + common, locks, many) for _ in range(many)], own=own))
+    return Program(*sorts, common=common, locks=locks)
+
+
+def mixed_row(draw, variables, locks, many):
+    words = ["open", "set"] * 3 + ["close", "renew", "use"] * 2 + ["drop", "go"] + ["lock", "unlock"] * len(locks)
+    word = draw.choice(words)
+    if word == "go":
+        return ("go", *[draw.randint(0, many) for _ in range(draw.randint(1, 3))])
+    if word == "set":
+        return ("set", draw.choice(variables), draw.choice(variables))
+    return (word, draw.choice(locks if word in ("lock", "unlock") else variables))

@@ -7,9 +7,11 @@ import os
 import unittest
 
 import handlesagain
-from handlesagain import benches, errors, handles, programs, tables, texts
+from handlesagain import benches, crowds, errors, handles, plays, programs, searches, tables, texts, verdicts
 from handlesagain.benches import Bench
+from handlesagain.crowds import Crowd
 from handlesagain.handles import Handle
+from handlesagain.plays import Play
 from handlesagain.programs import Program, Sort
 from handlesagain.tables import Table
 
@@ -18,7 +20,9 @@ ERRORS = ["HandleError", "InvalidNumber", "InvalidName", "InvalidRow", "InvalidS
 
 DEFINED = [
     (errors, ERRORS), (programs, ["is_row", "Sort", "Program"]), (texts, ["write", "read"]), (handles, ["Handle"]),
-    (tables, ["Table"]), (benches, ["Bench"]),
+    (tables, ["Table"]), (benches, ["Bench"]), (plays, ["Play"]), (crowds, ["Crowd"]),
+    (searches, ["shortest_fault", "is_safe", "faulty_rows", "shortest_stuck", "runs"]),
+    (verdicts, ["is_right", "shortest_length", "least_turns"]),
 ]
 
 METHODS = [
@@ -29,6 +33,9 @@ METHODS = [
     (Table, ["__init__", "__getitem__", "__len__", "__contains__", "free", "give", "close", "renew", "use", "copied"],
      ["size", "book", "turns"]),
     (Bench, ["__init__", "__eq__", "__call__"], ["program", "hands", "size", "book", "turns"]),
+    (Play, ["__init__", "__getitem__", "step", "steps", "row_of", "own_of", "is_taken", "table", "copied"],
+     ["bench", "made", "words", "fault"]),
+    (Crowd, ["__init__", "__eq__", "first_scene", "first_parts", "moves", "is_fault", "reached"], ["program", "turns"]),
 ]
 
 PARAMETERS = [
@@ -37,7 +44,14 @@ PARAMETERS = [
     (Program, ["sorts", "common", "locks"]), (Handle, ["number", "turn", "entry"]), (Table, ["size", "book", "turns"]),
     (Table.free, ["self"]), (Table.give, ["self", "number"]), (Table.close, ["self", "handle"]),
     (Table.renew, ["self", "handle"]), (Table.use, ["self", "handle"]), (Table.copied, ["self"]),
-    (Bench, ["program", "hands", "size", "book", "turns"]), (Bench.__call__, ["self", "run"]),
+    (Bench, ["program", "hands", "size", "book", "turns"]), (Bench.__call__, ["self", "run"]), (Play, ["bench"]),
+    (Play.step, ["self", "hand", "choice"]), (Play.steps, ["self"]), (Play.row_of, ["self", "hand"]),
+    (Play.own_of, ["self", "hand", "name"]), (Play.is_taken, ["self", "lock"]), (Play.table, ["self"]),
+    (Play.copied, ["self"]), (searches.shortest_fault, ["bench"]), (searches.is_safe, ["bench"]),
+    (searches.faulty_rows, ["bench"]), (searches.shortest_stuck, ["bench"]), (searches.runs, ["bench", "length"]),
+    (Crowd, ["program", "turns"]), (Crowd.first_scene, ["self"]), (Crowd.first_parts, ["self"]),
+    (Crowd.moves, ["self", "scene", "part"]), (Crowd.is_fault, ["self", "scene", "part"]), (Crowd.reached, ["self"]),
+    (verdicts.is_right, ["crowd"]), (verdicts.shortest_length, ["crowd"]), (verdicts.least_turns, ["program"]),
 ]
 
 FOLDER = os.path.dirname(handlesagain.__file__)
