@@ -38,18 +38,23 @@ def _depths(firsts, ways):
 
 
 class Trail:
-    """The moves of a crowd, told backwards."""
+    """The moves of a crowd, told backwards.
 
-    def __init__(self, crowd):
+    Scenes, parts and arrows are as those of a closure: all moves of parts that are not at odds, the first scene and
+    the first parts ahead.
+    """
+
+    def __init__(self, crowd, scenes, parts, arrows):
+        self.scenes = scenes
+        self.parts = parts
         self._crowd = crowd
-        self._closure = Closure(crowd)
         self._many_firsts = len(crowd.first_parts())
         # For each scene the dict of the scenes from which moves lead there, each with a dict of the part behind the
         # move and the list of the parts that move.
-        self._sources = [{} for _ in self._closure.scenes]
+        self._sources = [{} for _ in scenes]
         scene_ways = {}
         part_ways = {}
-        for scene, part, behind, moved in self._closure.arrows:
+        for scene, part, behind, moved in arrows:
             self._sources[behind].setdefault(scene, {}).setdefault(moved, []).append(part)
             scene_ways.setdefault(scene, {})[behind] = True
             part_ways.setdefault(part, {})[moved] = True
@@ -57,9 +62,9 @@ class Trail:
         self._part_depths = _depths(list(range(self._many_firsts)), part_ways)
 
     def faults(self):
-        """The list of the entries of a scene and a part that is at a fault there."""
-        return [(at, self._with((), place)) for at, scene in enumerate(self._closure.scenes)
-                for place, part in enumerate(self._closure.parts)
+        """The list of the tuples of a scene, a part that is at a fault there, and the crew that is needed for it."""
+        return [(at, place, self._with((), place)) for at, scene in enumerate(self.scenes)
+                for place, part in enumerate(self.parts)
                 if self._crowd.is_fault(scene, part) and not are_at_odds(scene, [part])]
 
     def least_moves(self, scene, crew):
@@ -70,16 +75,19 @@ class Trail:
         return of_crew if of_crew > of_scene else of_scene
 
     def ahead_of(self, scene, crew):
-        """The list of the entries from which one move leads to an entry, or to more than its crew."""
+        """The list of the entries from which one move leads to an entry, or to more than its crew.
+
+        They are tuples of a scene, a crew, the part that moves, and what it becomes.
+        """
         found = []
         for source, movers in self._sources[scene].items():
-            if source != scene and self._is_peaceful(source, crew):
-                for parts in list(movers.values()):
-                    found.extend([(source, self._with(crew, part)) for part in parts])
-            for at, part in enumerate(crew):
+            if source != scene and self.is_peaceful(source, crew):
+                for moved, parts in movers.items():
+                    found.extend([(source, self._with(crew, part), part, moved) for part in parts])
+            for at, moved in enumerate(crew):
                 rest = crew[:at] + crew[at + 1:]
-                found.extend([(source, self._with(rest, mover)) for mover in movers.get(part, [])])
-        return [entry for entry in found if self._is_peaceful(entry[0], entry[1])]
+                found.extend([(source, self._with(rest, part), part, moved) for part in movers.get(moved, [])])
+        return [entry for entry in found if self.is_peaceful(entry[0], entry[1])]
 
     def _with(self, crew, part):
         """The crew with a part more, unless this is a first one."""
@@ -88,10 +96,9 @@ class Trail:
         least = tuple([other for other in crew if other < part])
         return (*least, part, *crew[len(least):])
 
-    def _is_peaceful(self, scene, crew):
+    def is_peaceful(self, scene, crew):
         """Whether the parts of a crew are not at odds in a scene."""
-        parts = [self._closure.parts[part] for part in crew]
-        return not are_at_odds(self._closure.scenes[scene], parts)
+        return not are_at_odds(self.scenes[scene], [self.parts[part] for part in crew])
 
 
 class Hunt:
@@ -102,7 +109,7 @@ class Hunt:
     """
 
     def __init__(self, trail, is_by_size):
-        self._trail = trail
+        self.trail = trail
         self._is_by_size = is_by_size
         # The table: for each scene the list of the tuples of a crew, and of the number of moves from there to a fault.
         self._table = {}
@@ -110,11 +117,15 @@ class Hunt:
         # The entries that have not come into the table, with their moves, by rank; and the least moves to each entry.
         self._waiting = {}
         self._known = {}
+        # For each entry a part that moves, what it becomes and the entry behind; these are None where it is at a fault.
+        self._causes = {}
+        # The number of moves from the beginning to a fault, the least one unless by size; None if there are none.
+        self.many_moves = self._search()
 
-    def moves(self):
-        """The number of moves from the beginning to a fault, the least one unless by size; None if there are none."""
-        for scene, crew in self._trail.faults():
-            self._wait(scene, crew, 0)
+    def _search(self):
+        """The number of moves from the beginning to a fault, None if there are none."""
+        for scene, part, crew in self.trail.faults():
+            self._wait(scene, crew, 0, (part, None, None))
         while self._waiting:
             rank = min([int(other) for other in self._waiting])
             entries = self._waiting.pop(rank)
@@ -125,15 +136,16 @@ class Hunt:
                     self._enter(scene, crew, moves)
         return None
 
-    def _wait(self, scene, crew, moves):
+    def _wait(self, scene, crew, moves, cause):
         """Let an entry wait, unless it did already with as few moves."""
         if self._known.get((scene, crew), moves + 1) <= moves:
             return
         self._known[(scene, crew)] = moves
+        self._causes[(scene, crew)] = cause
         if self._is_by_size:
             rank = len(crew) * SPAN + moves
         else:
-            rank = ((moves + self._trail.least_moves(scene, crew)) * SPAN + moves) * SPAN + len(crew)
+            rank = ((moves + self.trail.least_moves(scene, crew)) * SPAN + moves) * SPAN + len(crew)
         self._waiting.setdefault(rank, []).append((scene, crew, moves))
 
     def _is_covered(self, scene, crew, moves):
@@ -147,30 +159,63 @@ class Hunt:
             raise TooMany(MOST_ENTRIES)
         self._many += 1
         self._table.setdefault(scene, []).append((crew, moves))
-        for source, parts in self._trail.ahead_of(scene, crew):
-            self._wait(source, parts, moves + 1)
+        for source, parts, part, moved in self.trail.ahead_of(scene, crew):
+            self._wait(source, parts, moves + 1, (part, moved, (scene, crew)))
+
+    def entries(self):
+        """The list of the entries in the table."""
+        return [(scene, crew) for scene, crews in self._table.items() for crew, _ in crews]
+
+    def path(self):
+        """The list of the moves from the beginning to a fault, where there is one, and the part that is at a fault.
+
+        A move is a tuple of a part, what it becomes, and the scene behind; these are None for the part at a fault.
+        """
+        found = []
+        entry = (0, ())
+        while entry is not None:
+            part, moved, entry = self._causes[entry]
+            found.append((part, moved, None if entry is None else entry[0]))
+        return found
+
+
+def _trail_of(crowd):
+    """The trail through all that is reached in a crowd."""
+    closure = Closure(crowd)
+    return Trail(crowd, closure.scenes, closure.parts, closure.arrows)
+
+
+def judged(crowd):
+    """A hunt that has found out whether a crowd is right."""
+    trail = _trail_of(crowd)
+    # Small crews cover many others, so this way most often takes the fewest entries, though not always.
+    try:
+        return Hunt(trail, True)
+    except TooMany:
+        return Hunt(trail, False)
+
+
+def measured(crowd):
+    """A hunt that has found the least number of moves to a fault, or that there is none."""
+    trail = _trail_of(crowd)
+    try:
+        return Hunt(trail, False)
+    except TooMany:
+        # To see that there is no run at all may take fewer entries.
+        hunt = Hunt(trail, True)
+        if hunt.many_moves is None:
+            return hunt
+        raise
 
 
 def is_right(crowd):
     """Whether a crowd is right."""
-    trail = Trail(crowd)
-    # Small crews cover many others, so this way most often takes the fewest entries, though not always.
-    try:
-        return Hunt(trail, True).moves() is None
-    except TooMany:
-        return Hunt(trail, False).moves() is None
+    return judged(crowd).many_moves is None
 
 
 def shortest_length(crowd):
     """Return the length of a shortest run to a fault, None if the crowd is right."""
-    trail = Trail(crowd)
-    try:
-        moves = Hunt(trail, False).moves()
-    except TooMany:
-        # To see that there is no run at all may take fewer entries.
-        if Hunt(trail, True).moves() is None:
-            return None
-        raise
+    moves = measured(crowd).many_moves
     return None if moves is None else moves + 1
 
 

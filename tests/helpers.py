@@ -1,9 +1,12 @@
 """What several tests need."""
 
+import itertools
 import random
 import unittest
 
+from handlesagain.benches import Bench
 from handlesagain.programs import Program, Sort
+from handlesagain.tables import BOOKS
 from handlesagain.texts import read
 
 
@@ -155,6 +158,147 @@ class PlainPlay:
         return told
 
 
+# Crowds, by the words of the document.
+
+
+def statuses(turns):
+    several = [f"{word}.{turn}" for word in ["early", "free", "late"] for turn in range(turns)]
+    return ["none", "meant", *several]
+
+
+def marks(turns):
+    return ["-", "x"] + [f"o.{turn}" for turn in range(turns)]
+
+
+def truths(many):
+    return list(itertools.product([False, True], repeat=many))
+
+
+def scenes(program, turns):
+    """All scenes of the forms of the document."""
+    common = itertools.product(marks(turns), repeat=len(program.common))
+    return list(itertools.product(statuses(turns), common, truths(len(program.locks))))
+
+
+def parts(program, turns):
+    """All parts of the forms of the document."""
+    found = []
+    for index, sort in enumerate(program.sorts):
+        own = list(itertools.product(marks(turns), repeat=len(sort.own)))
+        found.extend(itertools.product([index], range(len(sort) + 1), own, truths(len(program.locks))))
+    return found
+
+
+def is_asleep(sort, at, name):
+    """Whether no way from a row comes to one that reads a variable ahead of one that writes it."""
+    seen, waiting = [], [at]
+    while waiting:
+        at = waiting.pop()
+        if at in seen or at == len(sort):
+            continue
+        seen.append(at)
+        row = sort[at]
+        if row in [("close", name), ("renew", name), ("use", name)] or (row[0] == "set" and row[2] == name):
+            return False
+        if row in [("open", name), ("drop", name)] or row[:2] == ("set", name):
+            continue
+        waiting.extend(row[1:] if row[0] == "go" else [at + 1])
+    return True
+
+
+def is_plain_fault(program, scene, part):
+    sort = program.sorts[part[0]]
+    if part[1] == len(sort):
+        return False
+    row = sort[part[1]]
+    if row[0] not in ("close", "renew", "use"):
+        return False
+    name = row[1]
+    mark = part[2][sort.own.index(name)] if name in sort.own else scene[1][program.common.index(name)]
+    return (mark, scene[0]) in [("x", "late.0"), ("o.0", "meant")]
+
+
+def dealt(word, mark, status, turns):
+    """The list of the marks and statuses to which an opening or a deed leads, by the words of the document."""
+    if word == "open":
+        found = [("-", status)]
+        if status == "none":
+            found += [("x", "meant")] + [(f"o.{turn}", f"early.{turn}") for turn in range(turns)]
+        if status.startswith("free"):
+            turn = (int(status[5:]) + 1) % turns
+            found += [(f"o.{turn}", f"late.{turn}")]
+        return found
+    if (mark, status) in [("x", "late.0"), ("o.0", "meant")]:
+        return []
+    turn = int(mark[2:]) if mark.startswith("o") else 0
+    behind = (turn + 1) % turns
+    of_now = (mark, status) in [("x", "meant"), (f"o.{turn}", f"late.{turn}")]
+    early = (mark, status) == (f"o.{turn}", f"early.{turn}")
+    if word == "close" and of_now:
+        return [(mark, f"free.{turn}")]
+    if word == "close" and early:
+        return []
+    if word == "renew" and of_now:
+        return [(f"o.{behind}", f"late.{behind}")]
+    if word == "renew" and early:
+        return [(f"o.{behind}", f"early.{behind}")] + ([("x", "meant")] if behind == 0 else [])
+    return [(mark, status)]
+
+
+def plain_moves(program, turns, scene, part):
+    """The moves of a part in a scene by the words of the document, as a set."""
+    sort = program.sorts[part[0]]
+    if part[1] == len(sort):
+        return set()
+    row = sort[part[1]]
+    status, taken, held = scene[0], dict(zip(program.locks, scene[2])), dict(zip(program.locks, part[3]))
+    have = dict(zip(program.common + sort.own, scene[1] + part[2]))
+    results = [(status, have)]
+    if row[0] in ("open", "close", "renew", "use"):
+        results = [(other, {**have, row[1]: mark}) for mark, other in dealt(row[0], have[row[1]], status, turns)]
+    elif row[0] == "set":
+        results = [(status, {**have, row[1]: have[row[2]]})]
+    elif row[0] == "drop":
+        results = [(status, {**have, row[1]: "-"})]
+    elif row[0] == "lock":
+        results = [] if taken[row[1]] else results
+        taken[row[1]] = held[row[1]] = True
+    elif row[0] == "unlock" and held[row[1]]:
+        taken[row[1]] = held[row[1]] = False
+    found = set()
+    for other, have in results:
+        for goal in row[1:] if row[0] == "go" else [part[1] + 1]:
+            own = tuple("-" if is_asleep(sort, goal, name) else have[name] for name in sort.own)
+            common = tuple(have[name] for name in program.common)
+            found.add(((other, common, tuple(taken.values())), (part[0], goal, own, tuple(held.values()))))
+    return found
+
+
+def at_odds(scene, part):
+    seen = scene[1] + part[2]
+    if "x" in seen and (scene[0] == "none" or scene[0].startswith("early")):
+        return True
+    if scene[0] == "none" and any(mark.startswith("o") for mark in seen):
+        return True
+    return any(holds and not taken for holds, taken in zip(part[3], scene[2]))
+
+
+def plain_reached(program, turns):
+    """The least sets, by going over all pairs again until nothing is new."""
+    found_scenes = {("none", ("-",) * len(program.common), (False,) * len(program.locks))}
+    found_parts = {(index, 0, ("-",) * len(sort.own), (False,) * len(program.locks))
+                   for index, sort in enumerate(program.sorts)}
+    many = 0
+    while len(found_scenes) + len(found_parts) > many:
+        many = len(found_scenes) + len(found_parts)
+        for scene, part in list(itertools.product(found_scenes, found_parts)):
+            if not at_odds(scene, part):
+                for behind, moved in plain_moves(program, turns, scene, part):
+                    found_scenes.add(behind)
+                    found_parts.add(moved)
+    return found_scenes, found_parts
+
+
 # Programs with each kind of row, with rounds, with locks that are freed, kept, or taken in two orders.
 TEXTS = [
     "common c\nsort a\n  open c\n  close c\nsort b v\n  set v c\n  use v",
@@ -210,3 +354,38 @@ def mixed_row(draw, variables, locks, many):
     if word == "set":
         return ("set", draw.choice(variables), draw.choice(variables))
     return (word, draw.choice(locks if word in ("lock", "unlock") else variables))
+
+
+GIVERS = [
+    [("open", "c"), ("close", "c")],
+    [("lock", "k"), ("open", "c"), ("close", "c"), ("unlock", "k")],
+    [("open", "c"), ("renew", "c")],
+    [("lock", "k"), ("open", "c"), ("renew", "c"), ("close", "c"), ("drop", "c"), ("unlock", "k")],
+    [("open", "v"), ("set", "c", "v"), ("close", "v"), ("go", 0, 4)],
+    [("open", "v"), ("renew", "v"), ("renew", "v"), ("set", "c", "v")],
+]
+USERS = [
+    [("set", "v", "c"), ("use", "v")],
+    [("lock", "k"), ("set", "v", "c"), ("use", "v"), ("unlock", "k")],
+    [("set", "v", "c"), ("lock", "k"), ("close", "v"), ("unlock", "k")],
+    [("use", "c")],
+    [("set", "v", "c"), ("renew", "v"), ("drop", "c"), ("go", 0, 4)],
+]
+
+
+def joined(giver, user):
+    """A program with a giver and a user."""
+    return Program(Sort("giver", giver, own=["v"]), Sort("user", user, own=["v"]), common=["c"], locks=["k"])
+
+
+def all_programs():
+    return [*programs(), *[joined(giver, user) for giver in GIVERS for user in USERS]]
+
+
+def small_benches(program, turns, most):
+    """Benches with up to so many hands, with each book and up to three numbers."""
+    names = [sort.name for sort in program.sorts]
+    for many in range(1, most + 1):
+        for hands in itertools.combinations_with_replacement(names, many):
+            for size, book in itertools.product([1, 2, 3], BOOKS):
+                yield Bench(program, *hands, size=size, book=book, turns=turns)

@@ -7,12 +7,14 @@ import os
 import unittest
 
 import handlesagain
-from handlesagain import benches, crowds, errors, handles, plays, programs, searches, tables, texts, verdicts
+from handlesagain import (benches, crowds, errors, handles, papers, plays, programs, searches, systems, tables, texts,
+                          verdicts, witnesses)
 from handlesagain.benches import Bench
 from handlesagain.crowds import Crowd
 from handlesagain.handles import Handle
 from handlesagain.plays import Play
 from handlesagain.programs import Program, Sort
+from handlesagain.systems import Harm
 from handlesagain.tables import Table
 
 ERRORS = ["HandleError", "InvalidNumber", "InvalidName", "InvalidRow", "InvalidSort", "InvalidProgram", "InvalidText",
@@ -22,7 +24,8 @@ DEFINED = [
     (errors, ERRORS), (programs, ["is_row", "Sort", "Program"]), (texts, ["write", "read"]), (handles, ["Handle"]),
     (tables, ["Table"]), (benches, ["Bench"]), (plays, ["Play"]), (crowds, ["Crowd"]),
     (searches, ["shortest_fault", "is_safe", "faulty_rows", "shortest_stuck", "runs"]),
-    (verdicts, ["is_right", "shortest_length", "least_turns"]),
+    (verdicts, ["is_right", "shortest_length", "least_turns"]), (witnesses, ["witness"]),
+    (papers, ["paper", "accepts"]), (systems, ["compared", "hides", "turns_needed", "Harm"]),
 ]
 
 METHODS = [
@@ -36,6 +39,8 @@ METHODS = [
     (Play, ["__init__", "__getitem__", "step", "steps", "row_of", "own_of", "is_taken", "table", "copied"],
      ["bench", "made", "words", "fault"]),
     (Crowd, ["__init__", "__eq__", "first_scene", "first_parts", "moves", "is_fault", "reached"], ["program", "turns"]),
+    (Harm, ["__init__", "__lt__", "__le__", "__gt__", "__ge__", "__eq__", "__contains__", "__len__", "__bool__"],
+     ["bench", "rows", "length"]),
 ]
 
 PARAMETERS = [
@@ -52,6 +57,9 @@ PARAMETERS = [
     (Crowd, ["program", "turns"]), (Crowd.first_scene, ["self"]), (Crowd.first_parts, ["self"]),
     (Crowd.moves, ["self", "scene", "part"]), (Crowd.is_fault, ["self", "scene", "part"]), (Crowd.reached, ["self"]),
     (verdicts.is_right, ["crowd"]), (verdicts.shortest_length, ["crowd"]), (verdicts.least_turns, ["program"]),
+    (witnesses.witness, ["crowd"]), (papers.paper, ["crowd"]), (papers.accepts, ["crowd", "value"]),
+    (systems.compared, ["program", "hands", "size", "turns"]), (systems.hides, ["program", "hands", "size", "turns"]),
+    (systems.turns_needed, ["bench"]), (Harm, ["bench"]),
 ]
 
 FOLDER = os.path.dirname(handlesagain.__file__)

@@ -1,46 +1,25 @@
 """handlesagain/verdicts.py."""
 
-import itertools
 import unittest
 
-from helpers import WIDE, mixed_programs, programs
+from helpers import GIVERS, USERS, WIDE, all_programs, joined, mixed_programs, programs, small_benches
 
 from handlesagain.benches import Bench
 from handlesagain.crowds import Closure, Crowd
 from handlesagain.errors import TooMany
 from handlesagain.programs import Program, Sort
 from handlesagain.searches import shortest_fault
-from handlesagain.tables import BOOKS
 from handlesagain.texts import read
 from handlesagain.verdicts import Trail, is_right, is_within, least_turns, shortest_length
 
 PAIR = Program.pair()
 TURNS = range(1, 5)
 
-GIVERS = [
-    [("open", "c"), ("close", "c")],
-    [("lock", "k"), ("open", "c"), ("close", "c"), ("unlock", "k")],
-    [("open", "c"), ("renew", "c")],
-    [("lock", "k"), ("open", "c"), ("renew", "c"), ("close", "c"), ("drop", "c"), ("unlock", "k")],
-    [("open", "v"), ("set", "c", "v"), ("close", "v"), ("go", 0, 4)],
-    [("open", "v"), ("renew", "v"), ("renew", "v"), ("set", "c", "v")],
-]
-USERS = [
-    [("set", "v", "c"), ("use", "v")],
-    [("lock", "k"), ("set", "v", "c"), ("use", "v"), ("unlock", "k")],
-    [("set", "v", "c"), ("lock", "k"), ("close", "v"), ("unlock", "k")],
-    [("use", "c")],
-    [("set", "v", "c"), ("renew", "v"), ("drop", "c"), ("go", 0, 4)],
-]
 
-
-def joined(giver, user):
-    """A program with a giver and a user."""
-    return Program(Sort("giver", giver, own=["v"]), Sort("user", user, own=["v"]), common=["c"], locks=["k"])
-
-
-def all_programs():
-    return [*programs(), *[joined(giver, user) for giver in GIVERS for user in USERS]]
+def trail_of(crowd):
+    """The trail of a crowd, and the closure that it goes through."""
+    closure = Closure(crowd)
+    return Trail(crowd, closure.scenes, closure.parts, closure.arrows), closure
 
 
 def without(crew, part):
@@ -74,15 +53,6 @@ def plain_length(crowd, longest, most):
         if len(level) > most:
             return moves + 2, False
     return longest + 1, False
-
-
-def small_benches(program, turns, most):
-    """Benches with up to so many hands, with each book and up to three numbers."""
-    names = [sort.name for sort in program.sorts]
-    for many in range(1, most + 1):
-        for hands in itertools.combinations_with_replacement(names, many):
-            for size, book in itertools.product([1, 2, 3], BOOKS):
-                yield Bench(program, *hands, size=size, book=book, turns=turns)
 
 
 class TestExample(unittest.TestCase):
@@ -242,16 +212,18 @@ class TestAgainstMoves(unittest.TestCase):
     def test_entries_ahead_lead_to_the_entry_in_one_move(self):
         """The crew of an entry, or more, is there behind a move of one of the crew ahead of it or of a first part."""
         for program in [*programs(), *mixed_programs(40, "entries")]:
-            trail, closure = Trail(Crowd(program)), Closure(Crowd(program))
+            trail, closure = trail_of(Crowd(program))
             firsts = list(range(len(program)))
             moves = {}
             for scene, part, behind, moved in closure.arrows:
                 moves.setdefault((scene, part), []).append((behind, moved))
-            entries = trail.faults()[:20]
+            entries = [(scene, crew) for scene, _, crew in trail.faults()[:20]]
             for _ in range(5):
                 found = {}
                 for scene, crew in entries:
-                    for source, parts in trail.ahead_of(scene, crew):
+                    for source, parts, part, moved in trail.ahead_of(scene, crew):
+                        self.assertIn((scene, moved), moves[(source, part)])
+                        self.assertTrue(part in parts or part in firsts)
                         self.assertEqual(list(parts), sorted(parts))
                         self.assertNotIn(min([*parts, len(firsts)]), firsts)
                         behind = [sorted([*(parts if part in firsts else without(parts, part)), moved])
@@ -265,7 +237,7 @@ class TestAgainstMoves(unittest.TestCase):
     def test_what_it_takes_at_least_to_come_somewhere(self):
         """An estimate that was too great would hide shorter runs."""
         for program in [*programs(), *mixed_programs(20, "estimates")]:
-            trail, closure = Trail(Crowd(program, turns=2)), Closure(Crowd(program, turns=2))
+            trail, closure = trail_of(Crowd(program, turns=2))
             firsts = len(program)
             level = {(0, ()): True}
             for moves in range(6):
