@@ -1,8 +1,7 @@
 """Benches: programs with hands and a table."""
 
-from handlesagain.checks import is_listing
-from handlesagain.errors import InvalidHands, InvalidProgram, InvalidStep
-from handlesagain.plays import Play
+from handlesagain.errors import InvalidHands, InvalidProgram
+from handlesagain.plays import Play, make_all
 from handlesagain.programs import Program
 from handlesagain.tables import Table
 
@@ -56,11 +55,4 @@ class Bench:
 
     def __call__(self, run):
         """Play a run from the beginning; return the tuple of the words of its steps."""
-        if not is_listing(run):
-            raise InvalidStep(run)
-        play = Play(self)
-        for step in run:
-            if not isinstance(step, tuple) or len(step) != 2 or not play.can_step(step[0], step[1]):
-                raise InvalidStep(step)
-            play.step(step[0], step[1])
-        return play.words
+        return make_all(Play(self), run)

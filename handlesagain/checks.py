@@ -27,6 +27,11 @@ def is_name(value):
     return all([letter in LETTERS for letter in value])
 
 
+def is_step(value):
+    """Whether any value is a tuple of two counts."""
+    return isinstance(value, tuple) and len(value) == 2 and is_count(value[0]) and is_count(value[1])
+
+
 def is_listing(value):
     """Whether any value is a list or tuple."""
     return isinstance(value, (list, tuple))

@@ -1,6 +1,6 @@
 """Plays: benches that are played step by step."""
 
-from handlesagain.checks import is_count, is_index, is_name
+from handlesagain.checks import is_count, is_index, is_listing, is_name
 from handlesagain.errors import InvalidName, InvalidNumber, InvalidStep
 from handlesagain.handles import Handle
 from handlesagain.programs import DEEDS
@@ -13,8 +13,8 @@ class Play:
     def __init__(self, bench):
         program = bench.program
         self._bench = bench
-        self._made = []
-        self._words = []
+        # The last step and its word, with what is so ahead of it; None at the beginning. Copies share all of it.
+        self._last = None
         self._fault = None
         self._sorts = [program[name] for name in bench.hands]
         self._rows = [0] * len(self._sorts)
@@ -33,12 +33,21 @@ class Play:
     @property
     def made(self):
         """The tuple of the steps so far."""
-        return tuple(self._made)
+        return tuple([step for step, _ in self._history()])
 
     @property
     def words(self):
         """The tuple of the words of the steps so far."""
-        return tuple(self._words)
+        return tuple([word for _, word in self._history()])
+
+    def _history(self):
+        """The list of the tuples of a step so far and its word."""
+        found = []
+        link = self._last
+        while link is not None:
+            step, word, link = link
+            found.append((step, word))
+        return found[::-1]
 
     @property
     def fault(self):
@@ -55,8 +64,7 @@ class Play:
             self._rows[hand] = row[1 + choice]
         elif word != "fault":
             self._rows[hand] += 1
-        self._made.append((hand, choice))
-        self._words.append(word)
+        self._last = ((hand, choice), word, self._last)
         return word
 
     def can_step(self, hand, choice):
@@ -175,8 +183,7 @@ class Play:
     def copied(self):
         """Return a play of its own in the same state."""
         play = Play(self._bench)
-        play._made = list(self._made)
-        play._words = list(self._words)
+        play._last = self._last
         play._fault = self._fault
         play._rows = list(self._rows)
         play._common = dict(self._common)
@@ -184,3 +191,15 @@ class Play:
         play._takers = dict(self._takers)
         play._table = self._table.copied()
         return play
+
+
+def make_all(play, run):
+    """Let a play make all steps of a run; return the tuple of their words."""
+    if not is_listing(run):
+        raise InvalidStep(run)
+    words = []
+    for step in run:
+        if not isinstance(step, tuple) or len(step) != 2 or not play.can_step(step[0], step[1]):
+            raise InvalidStep(step)
+        words.append(play.step(step[0], step[1]))
+    return tuple(words)

@@ -1,7 +1,7 @@
 """Systems compared: the books and turns of tables, and what benches let happen."""
 
 from handlesagain.benches import Bench
-from handlesagain.checks import is_count
+from handlesagain.checks import is_step
 from handlesagain.crowds import Crowd
 from handlesagain.searches import faulty_rows, is_safe, shortest_fault
 from handlesagain.tables import BOOKS, MOST_TURNS
@@ -87,10 +87,8 @@ class Harm:
         return isinstance(other, Harm) and self._rows == other._rows
 
     def __contains__(self, x):
-        # Python takes True for 1, also inside tuples.
-        if not isinstance(x, tuple) or len(x) != 2 or not is_count(x[0]) or not is_count(x[1]):
-            return False
-        return x in self._rows
+        # Python takes True for 1, also inside tuples. A row is a tuple of two counts, like a step.
+        return is_step(x) and x in self._rows
 
     def __len__(self):
         return len(self._rows)

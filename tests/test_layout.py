@@ -7,13 +7,16 @@ import os
 import unittest
 
 import handlesagain
-from handlesagain import (benches, crowds, errors, handles, papers, plays, programs, searches, systems, tables, texts,
-                          verdicts, witnesses)
+from handlesagain import (benches, changes, console, crowds, errors, handles, notes, papers, plays, programs, searches,
+                          sessions, systems, tables, texts, verdicts, witnesses)
 from handlesagain.benches import Bench
+from handlesagain.console import Console
 from handlesagain.crowds import Crowd
 from handlesagain.handles import Handle
+from handlesagain.notes import Notes
 from handlesagain.plays import Play
 from handlesagain.programs import Program, Sort
+from handlesagain.sessions import Session, Trials
 from handlesagain.systems import Harm
 from handlesagain.tables import Table
 
@@ -26,6 +29,8 @@ DEFINED = [
     (searches, ["shortest_fault", "is_safe", "faulty_rows", "shortest_stuck", "runs"]),
     (verdicts, ["is_right", "shortest_length", "least_turns"]), (witnesses, ["witness"]),
     (papers, ["paper", "accepts"]), (systems, ["compared", "hides", "turns_needed", "Harm"]),
+    (changes, ["edited", "is_cure", "least_changes"]), (notes, ["Notes"]),
+    (sessions, ["Session", "Trials", "together"]), (console, ["Console"]),
 ]
 
 METHODS = [
@@ -41,6 +46,10 @@ METHODS = [
     (Crowd, ["__init__", "__eq__", "first_scene", "first_parts", "moves", "is_fault", "reached"], ["program", "turns"]),
     (Harm, ["__init__", "__lt__", "__le__", "__gt__", "__ge__", "__eq__", "__contains__", "__len__", "__bool__"],
      ["bench", "rows", "length"]),
+    (Notes, ["__init__", "__setitem__", "__getitem__", "__contains__", "__len__", "listed"], []),
+    (Session, ["__init__", "played", "step", "go", "rebench", "undo", "attempt"], ["bench", "made", "words"]),
+    (Trials, ["__init__", "__enter__", "__exit__", "__len__", "enter"], []),
+    (Console, ["__init__", "run"], []),
 ]
 
 PARAMETERS = [
@@ -59,7 +68,12 @@ PARAMETERS = [
     (verdicts.is_right, ["crowd"]), (verdicts.shortest_length, ["crowd"]), (verdicts.least_turns, ["program"]),
     (witnesses.witness, ["crowd"]), (papers.paper, ["crowd"]), (papers.accepts, ["crowd", "value"]),
     (systems.compared, ["program", "hands", "size", "turns"]), (systems.hides, ["program", "hands", "size", "turns"]),
-    (systems.turns_needed, ["bench"]), (Harm, ["bench"]),
+    (systems.turns_needed, ["bench"]), (Harm, ["bench"]), (changes.edited, ["program", "edits"]),
+    (changes.is_cure, ["program", "edits", "turns"]), (changes.least_changes, ["program", "menu", "turns"]),
+    (Notes, []), (Notes.listed, ["self"]), (Session, ["bench"]), (Session.played, ["self"]),
+    (Session.step, ["self", "hand", "choice"]), (Session.go, ["self", "run"]), (Session.rebench, ["self", "bench"]),
+    (Session.undo, ["self"]), (Session.attempt, ["self", "deeds"]), (Trials, []), (Trials.enter, ["self", "session"]),
+    (sessions.together, ["sessions", "deeds"]), (Console, []), (Console.run, ["self", "line"]),
 ]
 
 FOLDER = os.path.dirname(handlesagain.__file__)

@@ -84,7 +84,12 @@ class TestCompared(Case):
                     self.assertEqual(told[book] if told[book] is None or told[book] < 6 else None, length)
 
     def test_what_stands_for_sizes_and_turns_that_are_not_told(self):
-        self.assertEqual(compared(PAIR, *HANDS), compared(PAIR, *HANDS, size=4, turns=1))
+        # Under the book next the fifth opening is the first one that gets a number again.
+        hands = ["giver"] * 5 + ["user"]
+        self.assertEqual(compared(PAIR, *hands), {"least": 5, "any": 5, "next": 8, "last": 5})
+        self.assertEqual(compared(PAIR, *hands, size=5), {"least": 5, "any": 5, "next": None, "last": 5})
+        self.assertEqual(hides(PAIR, *hands), ())
+        self.assertEqual(hides(PAIR, *hands, size=5), ("next",))
         self.assertEqual(compared(PAIR, *HANDS, size=1), dict.fromkeys(BOOKS, 5))
         self.assertEqual(compared(PAIR, *HANDS, size=2)["next"], None)
         self.assertEqual(compared(PAIR, *HANDS, turns=2), dict.fromkeys(BOOKS))

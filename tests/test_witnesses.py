@@ -180,6 +180,16 @@ class TestTables(WitnessCase):
             openings = [step for step, word in zip(told[1], told[0](told[1])) if word == "done"]
             self.assertLessEqual(told[0].size, len(openings))
 
+    def test_openings_that_a_full_table_refuses(self):
+        program = read("common c\nlocks k\nsort a v\n  lock k\n  open c\n  open v\n  open v\n  close c\n  unlock k\n"
+                       "sort b v\n  set v c\n  use v")
+        for turns in TURNS:
+            crowd = Crowd(program, turns=turns)
+            bench, run = witness(crowd)
+            self.check(crowd, (bench, run))
+            self.assertEqual(bench.size, 1)
+            self.assertEqual(bench(run).count("refused"), 2 * turns)
+
     def test_a_table_that_is_too_great(self):
         crowd = Crowd(greedy(7, 7), turns=4)
         with mock.patch.object(witnesses, "MOST_NUMBERS", 49), self.assertRaises(TooMany) as caught:
