@@ -4,8 +4,8 @@ import itertools
 import unittest
 from unittest import mock
 
-from helpers import (WIDE, Case, at_odds, is_plain_fault, marks, others, parts, plain_moves, plain_reached, programs,
-                     scenes, statuses, truths)
+from helpers import (WIDE, Case, is_plain_fault, marks, others, parts, plain_moves, plain_reached, programs, scenes,
+                     statuses)
 
 from handlesagain import crowds
 from handlesagain.crowds import Crowd, are_at_odds

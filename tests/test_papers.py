@@ -199,8 +199,7 @@ class TestPaper(PaperCase):
         for crowd in crowds:
             told = self.check(crowd)
             if told is not None and told[0] == "right" and len(told[3]) < 60:
-                word, all_scenes, all_parts, table = told
-                self.assertTrue(is_plain_right(crowd, all_scenes, all_parts, table))
+                self.assertTrue(is_plain_right(crowd, *told[1:]))
                 self.assertEqual([type(item) for item in told[1:]], [tuple] * 3)
 
     def test_a_wrong_paper(self):
